@@ -13,8 +13,13 @@ def check_mode(system, machine, mode):
         raise BadMode()
 
 
-def check_terms(system, machine, mode, share, charge):
-    """As check_mode, then BadFraction unless share and charge are fractions."""
-    check_mode(system, machine, mode)
-    if not is_fraction(share) or not is_fraction(charge):
+def check_fractions(*things):
+    """Raise BadFraction unless all are fractions."""
+    if not all([is_fraction(thing) for thing in things]):
         raise BadFraction()
+
+
+def check_terms(system, machine, mode, *fractions):
+    """As check_mode, then BadFraction unless what is told of the terms are fractions: a share, a charge, or both."""
+    check_mode(system, machine, mode)
+    check_fractions(*fractions)

@@ -1,39 +1,13 @@
 """Liar's tables: they show that terms are not kept (5.3, 5.4)."""
 
+from hintslie.arcs import arcs_of_asks
 from hintslie.checks import check_terms
+from hintslie.circles import least_sums, stricter, weighed
 from hintslie.kinds import is_integer, is_tuple_of
+from hintslie.proofs import is_proof
 from hintslie.solving import contest
 from hintslie.steps import Steps
-from hintslie.terms import weight
-from hintslie.views import first_view
-
-
-def _chosen(done):
-    """The numbers of the views to which the asks chosen lead from the first one, each with its answers."""
-    answers = {}
-    todo = [0]
-    while len(todo) > 0:
-        view = todo.pop()
-        if view not in answers:
-            answers[view] = done.asked[view][done.choices[view]]
-            todo.extend([behind for _, behind in answers[view]])
-    return answers
-
-
-def _potentials(answers):
-    """For each view the least sum of M times the weight, less 1, over the plays from there, of any length."""
-    most = len(answers) + 1
-    numbers = {view: 0 for view in answers}
-    changed = True
-    # Each circle has a weight from 1 on and fewer than M rounds, so its sum is above 0 and this ends.
-    while changed:
-        changed = False
-        for view in answers:
-            least = min([most * cost - 1 + numbers[behind] for cost, behind in answers[view]])
-            if least < numbers[view]:
-                numbers[view] = least
-                changed = True
-    return numbers
+from hintslie.terms import weight, worths
 
 
 def liar(system, machine, mode, share, charge):
@@ -41,40 +15,32 @@ def liar(system, machine, mode, share, charge):
     done = contest(system, machine, mode, share, charge)
     if done.numbers[0] is not None:
         return None
-    answers = _chosen(done)
-    numbers = _potentials(answers)
-    found = {}
-    for view in answers:
-        ask = done.graph.rounds[view][done.choices[view]][0]
-        found[done.graph.views[view]] = (numbers[view], ask)
-    return found
+    graph = done.graph
+    arcs = arcs_of_asks(graph, done.choices)
+    views = [view for view, out in enumerate(arcs) if len(out) > 0]
+    # Each circle has a weight from 1 on, so none is below 0 when M times the weight, less 1, is taken.
+    numbers, _ = least_sums(stricter(weighed(arcs, worths(share, charge)), len(views) + 1))
+    return {graph.views[view]: (numbers[view], graph.rounds[view][done.choices[view]][0]) for view in views}
 
 
 def _is_entry(steps, view, thing):
-    """Whether a view has a pair of an integer and an ask there."""
-    if not steps.is_view(view) or not is_tuple_of(thing, 2):
-        return False
-    number, ask = thing
-    return is_integer(number) and ask in steps.asks_at(view)
+    """Whether a thing is a pair of an integer and an ask at the view."""
+    return is_tuple_of(thing, 2) and is_integer(thing[0]) and thing[1] in steps.asks_at(view)
 
 
 def is_liar(system, machine, mode, share, charge, thing):
     """Whether a thing is a liar's table for the terms."""
     check_terms(system, machine, mode, share, charge)
     steps = Steps(system, machine, mode)
-    if not isinstance(thing, dict):
-        return False
-    if not all([_is_entry(steps, view, thing[view]) for view in thing]):
-        return False
-    if first_view(system) not in thing:
-        return False
-    most = len(thing) + 1
-    for view in thing:
+    worth = worths(share, charge)
+
+    def holds(view):
+        """Whether each answer to the ask at the view makes the balance grow as told."""
+        most = len(thing) + 1
         number, ask = thing[view]
-        for post in steps.posts_for(ask[0]):
-            behind, price, rise, lie = steps.answered_at(view, ask, post)
-            if behind not in thing:
-                return False
-            if number > most * weight(share, charge, price, rise, lie) - 1 + thing[behind][0]:
-                return False
-    return True
+        return all([
+            behind in thing and number <= most * weight(worth, price, rise, lie) - 1 + thing[behind][0]
+            for behind, price, rise, lie in steps.results(view, ask)
+        ])
+
+    return is_proof(steps, thing, _is_entry, holds)

@@ -3,16 +3,8 @@
 from heapq import heapify, heappop, heappush
 
 from hintslie.checks import check_terms
-from hintslie.graphs import Graph
-from hintslie.steps import Steps
-from hintslie.terms import weight
-from hintslie.views import first_view
-
-
-def _weighed(one, share, charge):
-    """The pairs (weight, number of the view behind) of the answers in one round of a graph."""
-    _, rise, lie, answers = one
-    return [(weight(share, charge, price, rise, lie), behind) for _, price, behind in answers]
+from hintslie.terms import weight, worths
+from hintslie.views import graph_of
 
 
 def _least_answer(answers, numbers):
@@ -30,24 +22,32 @@ class Contest:
     ahead gains by no ask, so a player can answer each within them.
     """
 
-    def __init__(self, graph, share, charge):
+    def __init__(self, graph, worth):
         self.graph = graph
-        self.asked = [[_weighed(one, share, charge) for one in rounds] for rounds in graph.rounds]
         self.choices = [None] * len(graph.views)
         self.numbers = [0] * len(graph.views)
+        # What answers weigh but for a lie, which belongs to the view (see Graph).
+        self._costs = [
+            [(weight(worth, price, rise, 0), behind) for _, price, behind in served]
+            for rise, served in graph.answers
+        ]
+        self._lie = weight(worth, 0, 0, 1)
         # From where the first view is lost all is said: the asks chosen lead from it in circles that grow.
         while self.numbers[0] is not None and self._choose():
             self._settle()
 
     def _choose(self):
         """Choose the ask that promises most wherever one promises more than is reached; whether one did."""
+        promised = [_least_answer(answers, self.numbers) for answers in self._costs]
         better = False
-        for view, asked in enumerate(self.asked):
+        for view, rounds in enumerate(self.graph.rounds):
             best = self.numbers[view]
-            for k, answers in enumerate(asked):
+            for k, (_, lie, answered) in enumerate(rounds):
                 if best is None:
                     break
-                reached = _least_answer(answers, self.numbers)
+                reached = promised[answered]
+                if reached is not None:
+                    reached += lie * self._lie
                 if reached is None or reached > best:
                     best = reached
                     self.choices[view] = k
@@ -64,9 +64,10 @@ class Contest:
             choice = self.choices[view]
             if number is None or choice is None:
                 continue
-            for cost, behind in self.asked[view][choice]:
+            _, lie, answered = self.graph.rounds[view][choice]
+            for cost, behind in self._costs[answered]:
                 if self.numbers[behind] is not None:
-                    gains[behind].append((cost + self.numbers[behind] - number, view))
+                    gains[behind].append((cost + lie * self._lie + self.numbers[behind] - number, view))
         return gains
 
     def _settle(self):
@@ -92,4 +93,4 @@ class Contest:
 def contest(system, machine, mode, share, charge):
     """The contest of these terms at the views that come, or the errors of the arguments and TooMany(1000)."""
     check_terms(system, machine, mode, share, charge)
-    return Contest(Graph(Steps(system, machine, mode), first_view(system)), share, charge)
+    return Contest(graph_of(system, machine, mode), worths(share, charge))

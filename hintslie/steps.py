@@ -4,6 +4,11 @@ from hintslie.kinds import is_below, is_known, is_tuple_of
 from hintslie.knowledge import is_offsets, risen
 
 
+def lie_told(view, ask):
+    """1 if a hint lies open at the view and the ask has another request, otherwise 0."""
+    return 0 if view[3] is None or view[3] == ask[0] else 1
+
+
 class Steps:
     """The asks and answers of a system, a machine that suits it, and a mode.
 
@@ -44,7 +49,8 @@ class Steps:
         prices = self.system.prices(request)
         return [post for post in range(self.system.posts) if prices[post] is not None]
 
-    def _rise(self, offsets, request):
+    def risen_by(self, offsets, request):
+        """The pair of the offsets behind the request and the rise."""
         key = (offsets, request)
         if key not in self._risen:
             self._risen[key] = risen(self.system, offsets, request)
@@ -52,9 +58,12 @@ class Steps:
 
     def answered_at(self, view, ask, post):
         """The tuple (view, price, rise, lie) that comes of serving the ask at the post."""
-        state, place, offsets, hint = view
+        state, place, offsets, _ = view
         request, after = ask
-        behind, rise = self._rise(offsets, request)
+        behind, rise = self.risen_by(offsets, request)
         price = self.system.ways[place][post] + self.system.prices(request)[post]
-        lie = 0 if hint is None or hint == request else 1
-        return (self._turns[state][request], post, behind, after), price, rise, lie
+        return (self._turns[state][request], post, behind, after), price, rise, lie_told(view, ask)
+
+    def results(self, view, ask):
+        """What comes of each answer to the ask, in the order of the posts."""
+        return [self.answered_at(view, ask, post) for post in self.posts_for(ask[0])]

@@ -1,14 +1,12 @@
 """Tables: they show that terms are kept (5.2, 5.4, 5.5)."""
 
-from math import gcd
-
 from hintslie.checks import check_terms
 from hintslie.errors import NotKept
 from hintslie.kinds import is_natural
+from hintslie.proofs import is_proof
 from hintslie.solving import contest
 from hintslie.steps import Steps
-from hintslie.terms import units, weight
-from hintslie.views import first_view
+from hintslie.terms import lowest, units, weight, worths
 
 
 def kept(system, machine, mode, share, charge):
@@ -30,33 +28,29 @@ def least_sum(system, machine, mode, share, charge):
     number = contest(system, machine, mode, share, charge).numbers[0]
     if number is None:
         raise NotKept()
-    whole = units(share, charge)
-    divisor = gcd(number, whole)
-    return number // divisor, whole // divisor
+    return lowest(number, units(share, charge))
 
 
-def _has_answer(steps, terms, thing, view, ask):
+def _is_entry(steps, view, thing):
+    return is_natural(thing)
+
+
+def _has_answer(steps, worth, thing, view, ask):
     """Whether some answer to the ask leads from the view to one of the table, within the number of the view."""
-    share, charge = terms
-    for post in steps.posts_for(ask[0]):
-        behind, price, rise, lie = steps.answered_at(view, ask, post)
-        if behind in thing and weight(share, charge, price, rise, lie) + thing[behind] <= thing[view]:
-            return True
-    return False
+    return any([
+        behind in thing and weight(worth, price, rise, lie) + thing[behind] <= thing[view]
+        for behind, price, rise, lie in steps.results(view, ask)
+    ])
 
 
 def is_table(system, machine, mode, share, charge, thing):
     """Whether a thing is a table for the terms."""
     check_terms(system, machine, mode, share, charge)
     steps = Steps(system, machine, mode)
-    if not isinstance(thing, dict):
-        return False
-    if not all([steps.is_view(view) and is_natural(thing[view]) for view in thing]):
-        return False
-    if first_view(system) not in thing:
-        return False
-    for view in thing:
-        for ask in steps.asks_at(view):
-            if not _has_answer(steps, (share, charge), thing, view, ask):
-                return False
-    return True
+    worth = worths(share, charge)
+
+    def holds(view):
+        """Whether each ask at the view has an answer within its number."""
+        return all([_has_answer(steps, worth, thing, view, ask) for ask in steps.asks_at(view)])
+
+    return is_proof(steps, thing, _is_entry, holds)

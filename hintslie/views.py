@@ -43,7 +43,12 @@ def answered(system, machine, mode, view, ask, post):
     return steps.answered_at(view, ask, post)
 
 
+def graph_of(system, machine, mode):
+    """The graph of all views that come, of arguments that are right ones, or TooMany(1000)."""
+    return Graph(Steps(system, machine, mode), first_view(system))
+
+
 def views(system, machine, mode):
     """The number of all views that come."""
     check_mode(system, machine, mode)
-    return len(Graph(Steps(system, machine, mode), first_view(system)).views)
+    return len(graph_of(system, machine, mode).views)

@@ -1,7 +1,9 @@
 """What the tests share: objects of all kinds, made systems, and slow ways to the same answers."""
 
 import random
+from fractions import Fraction
 from itertools import permutations, product
+from math import gcd
 
 from hintslie.errors import HintError
 from hintslie.machines import Machine, free_machine
@@ -14,6 +16,11 @@ GREAT = 10 ** 29
 
 def rent():
     return System(((0, 2), (0, 0)), {"day": (1, 0), "over": (0, None)})
+
+
+def renting_by_hand(price):
+    """To rent (post 0) or to have bought (post 1)."""
+    return System(((0, price), (0, 0)), {"day": (1, 0), "over": (0, None)})
 
 
 def pages():
@@ -29,6 +36,16 @@ def detour():
 
 def single():
     return System(((0,),), {"x": (0,), "y": (3,)})
+
+
+def stall():
+    """A system in which hints help in many ways: its border has 11 pieces."""
+    return System(((0, 3), (4, 0)), {"a": (1, 3), "b": (1, 5), "c": (3, 0)})
+
+
+def slope():
+    """A system in which any charge above 0 makes the least share less."""
+    return System(((0, 3), (4, 0)), {"a": (3, 5), "b": (None, 5)})
 
 
 def line():
@@ -192,6 +209,24 @@ def slow_numbers(system, machine, mode, share, charge):
             return None
 
 
+def fraction(told):
+    """A pair (top, bottom) as a number."""
+    return Fraction(*told)
+
+
+def pair(number):
+    """A number as a pair (top, bottom)."""
+    return Fraction(number).as_integer_ratio()
+
+
+def is_plain_fraction(thing):
+    """Whether a thing is a fraction as 0.2 tells, made of plain integers."""
+    return (
+        type(thing) is tuple and len(thing) == 2 and type(thing[0]) is int and type(thing[1]) is int
+        and thing[0] >= 0 and thing[1] >= 1 and gcd(*thing) == 1
+    )
+
+
 def is_plain_integer(thing):
     return type(thing) is int
 
@@ -222,6 +257,21 @@ def shows_not_kept(system, machine, mode, share, charge, thing):
         for view, (number, ask) in thing.items()
         for result in outcomes(system, machine, mode, view)[ask]
     )
+
+
+def shows_least(system, machine, mode, share, charge, thing):
+    """Whether the clauses of a press hold for a dict from views to tuples of an integer, a level and an ask there."""
+    if first_view(system) not in thing:
+        return False
+    for view, (number, level, ask) in thing.items():
+        for result in outcomes(system, machine, mode, view)[ask]:
+            if result[0] not in thing:
+                return False
+            behind = thing[result[0]]
+            most = weight(share, charge, result) + behind[0]
+            if number > most or number == most and result[2] == 0 and behind[1] >= level:
+                return False
+    return True
 
 
 def no_views(first):

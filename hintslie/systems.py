@@ -12,7 +12,7 @@ def _is_price(thing):
     return is_below(thing, MOST_PRICE + 1)
 
 
-def _is_moves(thing):
+def is_moves(thing):
     """Whether a thing is a square of prices with 0 from each post to itself."""
     if not isinstance(thing, tuple) or not 1 <= len(thing) <= MOST_POSTS:
         return False
@@ -38,7 +38,7 @@ def _is_requests(thing, posts):
     return all([is_name(name) and _is_prices(thing[name], posts) for name in thing])
 
 
-def _least_ways(moves):
+def least_ways(moves):
     """The least sums of steps from each post to each other one, as tuples like moves."""
     ways = [list(prices) for prices in moves]
     posts = range(len(moves))
@@ -56,14 +56,14 @@ class System:
     """
 
     def __init__(self, moves, requests):
-        if not _is_moves(moves):
+        if not is_moves(moves):
             raise BadSystem("moves")
         if not _is_requests(requests, len(moves)):
             raise BadSystem("requests")
         self.moves = moves
         self.posts = len(moves)
         self.names = tuple(sorted(requests))
-        self.ways = _least_ways(moves)
+        self.ways = least_ways(moves)
         self._requests = {name: requests[name] for name in self.names}
 
     @property

@@ -20,8 +20,20 @@ INTERFACE = {
     "styles": {
         "style_post": None, "style_share": None, "style_sum": None, "worst_round": None, "is_worst_round": None,
     },
+    "rules": {"rule": None, "is_rule": None},
+    "matches": {
+        "Match": [
+            "__init__", "view", "asked", "rounds", "paid", "wisest", "lies", "ask", "answer", "balance", "back",
+            "history", "copy", "trying",
+        ],
+        "played": None,
+    },
+    "builds": {"renting": None, "rooms": None, "rows": None, "walkers": None},
+    "changes": {"beside": None, "folded": None, "times": None, "turned": None, "without": None},
 }
-LIBRARY = {"heapq": {"heapify", "heappop", "heappush"}, "math": {"gcd"}}
+LIBRARY = {
+    "heapq": {"heapify", "heappop", "heappush"}, "math": {"gcd"}, "itertools": {"combinations", "permutations"},
+}
 BUILTINS = {
     "len", "range", "enumerate", "zip", "min", "max", "sum", "abs", "sorted", "reversed", "int", "str", "bool", "list",
     "tuple", "dict", "set", "isinstance", "any", "all", "ValueError",
@@ -108,7 +120,7 @@ class FormTest(unittest.TestCase):
     def test_plain_values_and_statements(self):
         barred = (
             ast.Global, ast.Nonlocal, ast.AsyncFunctionDef, ast.Await, ast.GeneratorExp, ast.Yield, ast.YieldFrom,
-            ast.Div, ast.Try, ast.With, ast.Lambda, ast.AnnAssign, ast.JoinedStr,
+            ast.Div, ast.ExceptHandler, ast.With, ast.Lambda, ast.AnnAssign, ast.JoinedStr,
         )
         for name, node in self.walk():
             self.assertNotIsInstance(node, barred, (name, getattr(node, "lineno", 0)))

@@ -1,6 +1,6 @@
 """Systems and machines that are made of others (10)."""
 
-from hintslie.errors import BadMachine, BadNumber, BadPosts, NoRequest, TooLarge
+from hintslie.errors import BadNumber, BadPosts, NoRequest, TooLarge
 from hintslie.kinds import is_below, is_known, is_name, is_tuple_of
 from hintslie.machines import Machine
 from hintslie.systems import MOST_POSTS, MOST_PRICE, MOST_REQUESTS, System
@@ -19,10 +19,12 @@ def _check_prices(moves, requests):
 def beside(one, other):
     """The system of both at once, with the names of one behind an a, and those of the other one behind a b."""
     posts = [(a, b) for a in range(one.posts) for b in range(other.posts)]
-    requests = {"a" + name: tuple([one.prices(name)[a] for a, _ in posts]) for name in one.names}
+    requests = {}
+    for name in one.names:
+        requests["a" + name] = tuple([one.prices(name)[a] for a, _ in posts])
     for name in other.names:
         requests["b" + name] = tuple([other.prices(name)[b] for _, b in posts])
-    if len(posts) > MOST_POSTS or len(requests) > MOST_REQUESTS or not all([is_name(name) for name in requests]):
+    if len(posts) > MOST_POSTS or len(requests) > MOST_REQUESTS or not all([is_name(word) for word in requests]):
         raise TooLarge()
     moves = tuple([tuple([one.moves[a][c] + other.moves[b][d] for c, d in posts]) for a, b in posts])
     _check_prices(moves, requests)
@@ -84,7 +86,5 @@ def without(machine, name):
     """The machine in which the name is no key any more."""
     if not is_known(name, machine.names):
         raise NoRequest(name)
-    turns = tuple([{other: turn[other] for other in turn if other != name} for turn in machine.turns])
-    if any([len(turn) == 0 for turn in turns]):
-        raise BadMachine()
-    return Machine(turns)
+    # Machine itself raises BadMachine for a state that would have no name.
+    return Machine(tuple([{other: turn[other] for other in turn if other != name} for turn in machine.turns]))

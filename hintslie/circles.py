@@ -82,6 +82,7 @@ def cleared(arcs, line, place):
     circle = least_sums(weighed(arcs, worths_at(line, place)))[1]
     while circle is not None:
         last = circle
-        place = place_of(line, *circle_sums(arcs, circle))
+        price, rise, lies = circle_sums(arcs, circle)
+        place = place_of(line, price, rise, lies)
         circle = least_sums(weighed(arcs, worths_at(line, place)))[1]
     return place, last

@@ -7,17 +7,11 @@ from hintslie.terms import weight, worths
 from hintslie.views import graph_of
 
 
-def _least_answer(answers, numbers):
-    """The least of weight and number behind, together, or None if each answer leads to where there is none."""
-    sums = [cost + numbers[behind] for cost, behind in answers if numbers[behind] is not None]
-    return min(sums, default=None)
-
-
 class Contest:
     """An asker who gets better, at the views of a graph, until no ask promises more.
 
     `choices[k]` is the number of the ask that the asker puts at the view k, or None to ask no more.
-    `numbers[k]` is what the asker surely reaches so from there, or None if it is without end; it only grows.
+    `numbers[k]` is what the asker surely reaches so from there, or None if it is without end.
     At the end these are the least numbers that a table can have: an asker who takes them for what is
     ahead gains by no ask, so a player can answer each within them.
     """
@@ -25,33 +19,36 @@ class Contest:
     def __init__(self, graph, worth):
         self.graph = graph
         self.choices = [None] * len(graph.views)
-        self.numbers = [0] * len(graph.views)
         # What answers weigh but for a lie, which belongs to the view (see Graph).
         self._costs = [
             [(weight(worth, price, rise, 0), behind) for _, price, behind in served]
             for rise, served in graph.answers
         ]
-        self._lie = weight(worth, 0, 0, 1)
+        lies = (0, weight(worth, 0, 0, 1))
+        self._asked = [[(answered, lies[lie]) for _, lie, answered in rounds] for rounds in graph.rounds]
+        # What is reached grows only. Without a circle it is the sum of one weight for each view at most; this is
+        # so far above that it stands for what is without end, whatever is added to it.
+        most = max([abs(cost) for answers in self._costs for cost, _ in answers])
+        self._endless = (len(graph.views) + 3) * (most + abs(lies[1]) + 1)
+        self._reached = [0] * len(graph.views)
         # From where the first view is lost all is said: the asks chosen lead from it in circles that grow.
-        while self.numbers[0] is not None and self._choose():
+        while self._reached[0] < self._endless and self._choose():
             self._settle()
+        self.numbers = [None if number == self._endless else number for number in self._reached]
 
     def _choose(self):
         """Choose the ask that promises most wherever one promises more than is reached; whether one did."""
-        promised = [_least_answer(answers, self.numbers) for answers in self._costs]
+        reached = self._reached
+        promised = [min([cost + reached[behind] for cost, behind in answers]) for answers in self._costs]
         better = False
-        for view, rounds in enumerate(self.graph.rounds):
-            best = self.numbers[view]
-            for k, (_, lie, answered) in enumerate(rounds):
-                if best is None:
-                    break
-                reached = promised[answered]
-                if reached is not None:
-                    reached += lie * self._lie
-                if reached is None or reached > best:
-                    best = reached
-                    self.choices[view] = k
-                    better = True
+        for view, asked in enumerate(self._asked):
+            if reached[view] == self._endless:
+                continue
+            sums = [promised[answered] + lie for answered, lie in asked]
+            best = max(sums)
+            if best > reached[view]:
+                self.choices[view] = sums.index(best)
+                better = True
         return better
 
     def _gains(self):
@@ -59,15 +56,15 @@ class Contest:
 
         No gain is below 0, because an ask is only chosen if each answer to it reaches the number at least.
         """
-        gains = [[] for _ in self.numbers]
-        for view, number in enumerate(self.numbers):
-            choice = self.choices[view]
-            if number is None or choice is None:
+        reached = self._reached
+        gains = [[] for _ in reached]
+        for view, choice in enumerate(self.choices):
+            if choice is None or reached[view] == self._endless:
                 continue
-            _, lie, answered = self.graph.rounds[view][choice]
+            answered, lie = self._asked[view][choice]
             for cost, behind in self._costs[answered]:
-                if self.numbers[behind] is not None:
-                    gains[behind].append((cost + lie * self._lie + self.numbers[behind] - number, view))
+                if reached[behind] != self._endless:
+                    gains[behind].append((cost + lie + reached[behind] - reached[view], view))
         return gains
 
     def _settle(self):
@@ -83,11 +80,11 @@ class Contest:
             gained, view = heappop(queue)
             if view in settled:
                 continue
-            settled[view] = self.numbers[view] + gained
+            settled[view] = self._reached[view] + gained
             for gain, ahead in gains[view]:
                 if ahead not in settled:
                     heappush(queue, (gained + gain, ahead))
-        self.numbers = [settled.get(view) for view in range(len(self.numbers))]
+        self._reached = [settled.get(view, self._endless) for view in range(len(self._reached))]
 
 
 def contest(system, machine, mode, share, charge):

@@ -129,6 +129,32 @@ class FormTest(unittest.TestCase):
             if isinstance(node, ast.Compare) and any(isinstance(op, (ast.Is, ast.IsNot)) for op in node.ops):
                 self.assertTrue(all(isinstance(side, ast.Constant) for side in node.comparators), name)
 
+    def test_stars(self):
+        for name, node in self.walk():
+            if isinstance(node, ast.Call):
+                for one in node.args:
+                    if isinstance(one, ast.Starred):
+                        self.assertIsInstance(one.value, (ast.Name, ast.Attribute), name)
+                self.assertTrue(all(one.arg for one in node.keywords), name)
+
+    def test_the_library_is_iterated_at_once(self):
+        for name, tree in self.trees.items():
+            parents = {child: node for node in ast.walk(tree) for child in ast.iter_child_nodes(node)}
+            for node in ast.walk(tree):
+                if isinstance(node, ast.Call) and isinstance(node.func, ast.Name):
+                    if node.func.id in LIBRARY["itertools"] | {"zip", "enumerate", "reversed"}:
+                        self.assertIsInstance(parents[node], (ast.Call, ast.For, ast.comprehension), name)
+                        if isinstance(parents[node], ast.Call):
+                            self.assertIn(parents[node].func.id, {"list", "tuple", "enumerate", "zip", "sorted"}, name)
+
+    def test_finally_has_plain_assignments_alone(self):
+        for name, node in self.walk():
+            if isinstance(node, ast.Try):
+                for one in node.finalbody:
+                    self.assertIsInstance(one, ast.Assign, name)
+                    told = one.value.elts if isinstance(one.value, ast.Tuple) else [one.value]
+                    self.assertTrue(all(isinstance(item, ast.Name) for item in told), name)
+
     def test_builtins_and_methods(self):
         own = {node.name for _, node in self.walk() if isinstance(node, (ast.FunctionDef, ast.ClassDef))}
         # A function may be passed, and is called by the name of a parameter then.

@@ -1,3 +1,4 @@
+import functools
 import random
 import unittest
 from fractions import Fraction
@@ -37,8 +38,9 @@ def charges_to_try(pieces):
     return found + [begun[-1] + 1, begun[-1] + 99, Fraction(10 ** 20)]
 
 
+@functools.cache
 def cases():
-    """Systems and machines of a few views, most of them with a border of several pieces."""
+    """Systems and machines of a few views with their borders, most of them of several pieces."""
     chance = random.Random(150)
     found = [(system, free_machine(system)) for system in (rent(), pages(), detour(), single(), stall(), slope())]
     found += [(rent(), line()), (stall(), Machine(({"a": 1, "b": 0}, {"c": 0, "b": 1})))]
@@ -48,7 +50,7 @@ def cases():
         if len(walked(system, machine, "free", 45)) <= 45:
             if least_share(system, machine, "none", NONE) != least_share(system, machine, "true", NONE):
                 found.append((system, machine))
-    return found
+    return [(system, machine, border(system, machine)) for system, machine in found]
 
 
 class BorderTest(unittest.TestCase):
@@ -73,8 +75,7 @@ class BorderTest(unittest.TestCase):
         ])
 
     def test_form(self):
-        for system, machine in cases():
-            pieces = border(system, machine)
+        for system, machine, pieces in cases():
             self.assertIs(type(pieces), list)
             for piece in pieces:
                 self.assertIs(type(piece), tuple)
@@ -85,8 +86,7 @@ class BorderTest(unittest.TestCase):
 
     def test_the_least_share_is_what_the_pieces_tell(self):
         many = []
-        for system, machine in cases():
-            pieces = border(system, machine)
+        for system, machine, pieces in cases():
             many.append(len(pieces))
             for charge in charges_to_try(pieces):
                 share = least_share(system, machine, "free", pair(charge))
@@ -96,16 +96,14 @@ class BorderTest(unittest.TestCase):
 
     def test_charges_of_all_kinds(self):
         chance = random.Random(151)
-        for system, machine in cases()[::3]:
-            pieces = border(system, machine)
+        for system, machine, pieces in cases()[::3]:
             for _ in range(12):
                 charge = Fraction(chance.randint(0, 99), chance.randint(1, 99))
                 share = least_share(system, machine, "free", pair(charge))
                 self.assertEqual(fraction(share), told_by(pieces, charge))
 
     def test_as_few_pieces_as_can_be(self):
-        for system, machine in cases():
-            pieces = border(system, machine)
+        for system, machine, pieces in cases():
             for one, other in zip(pieces, pieces[1:]):
                 begun = fraction(other[0])
                 self.assertFalse(one[2] == other[2] and share_at(one, begun) == fraction(other[1]))
@@ -113,8 +111,7 @@ class BorderTest(unittest.TestCase):
                 self.assertGreaterEqual(share_at(one, begun), fraction(other[1]))
 
     def test_first_and_last_piece(self):
-        for system, machine in cases():
-            pieces = border(system, machine)
+        for system, machine, pieces in cases():
             self.assertEqual(pieces[0][0], (0, 1))
             self.assertEqual(pieces[0][1], least_share(system, machine, "none", NONE))
             true = least_share(system, machine, "true", NONE)
@@ -138,7 +135,7 @@ class BorderTest(unittest.TestCase):
         self.assertEqual(len(walked(system, machine, "free")), 340)
         pieces = border(system, machine)
         self.assertEqual(len(pieces), 13)
-        for charge in charges_to_try(pieces)[::3]:
+        for charge in charges_to_try(pieces)[::6]:
             share = least_share(system, machine, "free", pair(charge))
             self.assertEqual(fraction(share), told_by(pieces, charge))
 

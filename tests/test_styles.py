@@ -379,12 +379,13 @@ class IsWorstRoundTest(unittest.TestCase):
     def test_spoiled_at_any_place(self):
         for case in self.CASES:
             share = style_share(*case)
-            for pair_of_rows in (worst_round(*case), tuple(part * 2 for part in worst_round(*case))):
+            found = worst_round(*case)
+            for pair_of_rows, more in ((found, objects()), (tuple(part * 2 for part in found), [])):
                 for part in (0, 1):
                     row = pair_of_rows[part]
                     for index, ask in enumerate(row):
-                        for thing in [("mist", ask[1]), (ask[0], "mist"), list(ask), ask[:1], ask + (None,), ask[::-1],
-                                      (ask[0], 0), None] + objects():
+                        things = [("mist", ask[1]), (ask[0], "mist"), list(ask), ask[:1], ask + (None,), ask[::-1]]
+                        for thing in things + [(ask[0], 0), None] + (more if index < 2 else []):
                             if thing != ask:
                                 spoiled = replaced(pair_of_rows, part, replaced(row, index, thing))
                                 right = type(thing) is tuple and shows_worst(*case, share, spoiled)

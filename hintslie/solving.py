@@ -14,9 +14,12 @@ class Contest:
     `numbers[k]` is what the asker surely reaches so from there, or None if it is without end.
     At the end these are the least numbers that a table can have: an asker who takes them for what is
     ahead gains by no ask, so a player can answer each within them.
+
+    Other rounds than those of the graph may be given, to let fewer asks, and with them what the asker reaches at
+    each view by asking no more, at least 0.
     """
 
-    def __init__(self, graph, worth):
+    def __init__(self, graph, worth, rounds=None, stops=None):
         self.graph = graph
         self.choices = [None] * len(graph.views)
         # What answers weigh but for a lie, which belongs to the view (see Graph).
@@ -25,12 +28,16 @@ class Contest:
             for rise, served in graph.answers
         ]
         lies = (0, weight(worth, 0, 0, 1))
-        self._asked = [[(answered, lies[lie]) for _, lie, answered in rounds] for rounds in graph.rounds]
-        # What is reached grows only. Without a circle it is the sum of one weight for each view at most; this is
-        # so far above that it stands for what is without end, whatever is added to it.
+        self._asked = [
+            [(answered, lies[lie]) for _, lie, answered in told]
+            for told in (graph.rounds if rounds is None else rounds)
+        ]
+        # What is reached grows only. Without a circle it is the sum of one weight for each view at most, and what
+        # is reached where the asker stops; this is so far above that it stands for what is without end, whatever
+        # is added to it.
         most = max([abs(cost) for answers in self._costs for cost, _ in answers])
-        self._endless = (len(graph.views) + 3) * (most + abs(lies[1]) + 1)
-        self._reached = [0] * len(graph.views)
+        self._reached = [0] * len(graph.views) if stops is None else list(stops)
+        self._endless = (len(graph.views) + 3) * (most + abs(lies[1]) + 1) + max(self._reached)
         # From where the first view is lost all is said: the asks chosen lead from it in circles that grow.
         while self._reached[0] < self._endless and self._choose():
             self._settle()

@@ -1,4 +1,4 @@
-"""The examples of the document that have landed."""
+"""The examples of the document."""
 
 import unittest
 
@@ -8,6 +8,7 @@ from hintslie.machines import free_machine
 from hintslie.shares import least_share
 from hintslie.styles import style_post
 from hintslie.tables import kept
+from hintslie.texts import machine_text
 from hintslie.views import first_view
 from hintslie.wisest import wisest
 
@@ -38,6 +39,9 @@ class ExamplesTest(unittest.TestCase):
     def test_e08(self):
         system = rooms(1, 2)
         self.assertEqual(least_share(system, free_machine(system), "none", (0, 1)), (1, 1))
+
+    def test_e09(self):
+        self.assertEqual(machine_text(free_machine(renting(2))), "state day:0 over:0\n")
 
 
 if __name__ == "__main__":

@@ -30,6 +30,10 @@ INTERFACE = {
     },
     "builds": {"renting": None, "rooms": None, "rows": None, "walkers": None},
     "changes": {"beside": None, "folded": None, "times": None, "turned": None, "without": None},
+    "blames": {"blamed": None},
+    "texts": {"system_text": None, "machine_text": None, "view_text": None},
+    "reading": {"read_system": None, "read_machine": None, "read_view": None},
+    "lies": {"counted_sums": None, "counted_table": None, "is_counted_table": None},
 }
 LIBRARY = {
     "heapq": {"heapify", "heappop", "heappush"}, "math": {"gcd"}, "itertools": {"combinations", "permutations"},
@@ -38,7 +42,7 @@ BUILTINS = {
     "len", "range", "enumerate", "zip", "min", "max", "sum", "abs", "sorted", "reversed", "int", "str", "bool", "list",
     "tuple", "dict", "set", "isinstance", "any", "all", "ValueError",
 }
-METHODS = {"append", "extend", "get", "index", "items", "join", "keys", "pop", "values"}
+METHODS = {"append", "extend", "get", "index", "items", "join", "keys", "pop", "split", "values"}
 
 
 def sources():
@@ -120,7 +124,7 @@ class FormTest(unittest.TestCase):
     def test_plain_values_and_statements(self):
         barred = (
             ast.Global, ast.Nonlocal, ast.AsyncFunctionDef, ast.Await, ast.GeneratorExp, ast.Yield, ast.YieldFrom,
-            ast.Div, ast.ExceptHandler, ast.With, ast.Lambda, ast.AnnAssign, ast.JoinedStr,
+            ast.Div, ast.With, ast.Lambda, ast.AnnAssign, ast.JoinedStr,
         )
         for name, node in self.walk():
             self.assertNotIsInstance(node, barred, (name, getattr(node, "lineno", 0)))
@@ -154,6 +158,13 @@ class FormTest(unittest.TestCase):
                     self.assertIsInstance(one, ast.Assign, name)
                     told = one.value.elts if isinstance(one.value, ast.Tuple) else [one.value]
                     self.assertTrue(all(isinstance(item, ast.Name) for item in told), name)
+
+    def test_own_errors_alone_are_caught(self):
+        own = {node.name for node in self.trees["errors.py"].body if isinstance(node, ast.ClassDef)}
+        for name, node in self.walk():
+            if isinstance(node, ast.ExceptHandler):
+                kinds = node.type.elts if isinstance(node.type, ast.Tuple) else [node.type]
+                self.assertLessEqual({kind.id for kind in kinds}, own, name)
 
     def test_builtins_and_methods(self):
         own = {node.name for _, node in self.walk() if isinstance(node, (ast.FunctionDef, ast.ClassDef))}

@@ -4,11 +4,16 @@ from hintslie.errors import BadFraction, BadMode, Unsuited
 from hintslie.kinds import MODES, is_fraction, is_known
 
 
-def check_mode(system, machine, mode):
-    """Raise Unsuited unless the machine suits the system, then BadMode for what is no mode."""
+def check_suited(system, machine):
+    """Raise Unsuited unless the machine suits the system."""
     for name in machine.names:
         if name not in system.names:
             raise Unsuited(name)
+
+
+def check_mode(system, machine, mode):
+    """As check_suited, then BadMode for what is no mode."""
+    check_suited(system, machine)
     if not is_known(mode, MODES):
         raise BadMode()
 

@@ -52,6 +52,25 @@ class Machine:
         return True
 
 
+def met_turns(turns, start):
+    """The turns of a machine of all states that can be come to from the start, numbered as they are met.
+
+    One goes breadth first, names ascending. `turns` is a dict from states, whatever they are, to dicts from names
+    to states.
+    """
+    met = [start]
+    numbers = {start: 0}
+    done = 0
+    while done < len(met):
+        turn = turns[met[done]]
+        done += 1
+        for name in sorted(turn):
+            if turn[name] not in numbers:
+                numbers[turn[name]] = len(met)
+                met.append(turn[name])
+    return tuple([{name: numbers[turns[state][name]] for name in sorted(turns[state])} for state in met])
+
+
 def free_machine(system):
     """The machine of one state in which each request of the system leads to it."""
     return Machine(({name: 0 for name in system.names},))

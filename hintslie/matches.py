@@ -12,16 +12,17 @@ from hintslie.views import first_view
 class Match:
     """A play from the first view.
 
-    `view` is where it stands, `asked` the ask that is not answered yet, or None; `rounds`, `paid`, `wisest` and
-    `lies` are the number of the rounds done and the sums of their prices, rises and lies.
+    `mode` is its mode, `view` is where it stands, `asked` the ask that is not answered yet, or None; `rounds`,
+    `paid`, `wisest` and `lies` are the number of the rounds done and the sums of their prices, rises and lies.
     """
 
     def __init__(self, system, machine, mode):
         check_mode(system, machine, mode)
+        self.mode = mode
         self.view = first_view(system)
         self.asked = None
         self.rounds = self.paid = self.wisest = self.lies = 0
-        self._source = (system, machine, mode)
+        self._source = (system, machine)
         self._steps = Steps(system, machine, mode)
         # How it stood ahead of each ask and each answer, and the rounds done.
         self._past = []
@@ -73,8 +74,8 @@ class Match:
 
     def copy(self):
         """Another match that stands like this one and goes on apart."""
-        system, machine, mode = self._source
-        other = Match(system, machine, mode)
+        system, machine = self._source
+        other = Match(system, machine, self.mode)
         other.view, other.asked, other.rounds, other.paid, other.wisest, other.lies = self._standing()
         other._past = list(self._past)
         other._history = list(self._history)

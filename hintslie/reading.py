@@ -6,7 +6,7 @@ from hintslie.kinds import is_name
 from hintslie.machines import Machine
 from hintslie.steps import Steps
 from hintslie.systems import System
-from hintslie.words import NO_NAME, is_number, is_sign, lines_of, name_of
+from hintslie.words import NO_NAME, check_closed, is_number, is_sign, lines_of, name_of
 
 
 def _all_numbers(words):
@@ -25,12 +25,6 @@ def _price(word):
     return None if word == NO_NAME else int(word)
 
 
-def _check_closed(lines):
-    """Raise BadText if something stands behind the last line feed."""
-    if lines[-1] != "":
-        raise BadText(len(lines))
-
-
 def read_system(text):
     """The system that has this text."""
     lines = lines_of(text)
@@ -47,7 +41,7 @@ def read_system(text):
             requests[last] = tuple([_price(word) for word in words[2:]])
         else:
             raise BadText(index + 1)
-    _check_closed(lines)
+    check_closed(lines)
     return System(tuple(moves), requests)
 
 
@@ -75,7 +69,7 @@ def read_machine(text):
         if turn is None:
             raise BadText(index + 1)
         turns.append(turn)
-    _check_closed(lines)
+    check_closed(lines)
     return Machine(tuple(turns))
 
 

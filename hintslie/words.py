@@ -35,3 +35,9 @@ def lines_of(text):
     if not isinstance(text, str):
         raise BadText(0)
     return text.split("\n")
+
+
+def check_closed(lines):
+    """Raise BadText, with the number of lines and 1, if something stands behind the last line feed."""
+    if lines[-1] != "":
+        raise BadText(len(lines))

@@ -34,6 +34,11 @@ INTERFACE = {
     "texts": {"system_text": None, "machine_text": None, "view_text": None},
     "reading": {"read_system": None, "read_machine": None, "read_view": None},
     "lies": {"counted_sums": None, "counted_table": None, "is_counted_table": None},
+    "rounds": {"rounds_sum": None, "cruelest": None},
+    "memory": {"memory": None, "is_memory": None, "lesser_machine": None},
+    "histories": {"history_text": None, "read_history": None},
+    "edits": {"with_request": None, "without_request": None, "with_step": None, "both": None},
+    "desk": {"Desk": ["__init__", "tell", "undoable", "would"]},
 }
 LIBRARY = {
     "heapq": {"heapify", "heappop", "heappush"}, "math": {"gcd"}, "itertools": {"combinations", "permutations"},

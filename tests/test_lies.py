@@ -218,8 +218,8 @@ class CountedTableTest(unittest.TestCase):
 
 class IsCountedTableTest(unittest.TestCase):
     CASES = [
-        (rent(), free_machine(rent()), (1, 1), 0), (rent(), free_machine(rent()), (5, 4), 2), (rent(), line(), (1, 1), 1),
-        (pages(), free_machine(pages()), (1, 1), 1),
+        (rent(), free_machine(rent()), (1, 1), 0), (rent(), free_machine(rent()), (5, 4), 2),
+        (rent(), line(), (1, 1), 1), (pages(), free_machine(pages()), (1, 1), 1),
         (stall(), free_machine(stall()), least_share(stall(), free_machine(stall()), "true", NONE), 1),
     ]
 

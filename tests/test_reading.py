@@ -128,8 +128,7 @@ class ReadSystemTest(ReadingTest):
             self.part_bad(text + "request a 0\n", "moves")
             self.part_bad(text + "request a 0 0\n", "moves")
             self.part_bad(text, "moves")
-        seven = ["0"] * 7
-        self.part_bad("".join("post " + " ".join(seven) + "\n" for _ in range(7)) + "request a - - 0 0 0 0 0\n", "moves")
+        self.part_bad(("post" + " 0" * 7 + "\n") * 7 + "request a - - 0 0 0 0 0\n", "moves")
         head = "post 0 1\npost 1 0\n"
         for text in ("request a 0\n", "request a 0 0 0\n", "request a - -\n", "request a 10 0\n",
                      "request a 0 999999999\n", "request a 0 0\nrequest b -\n", "request a -\n",

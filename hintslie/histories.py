@@ -36,8 +36,9 @@ def read_history(system, machine, text):
     """The match that has this text."""
     check_suited(system, machine)
     lines = lines_of(text)
+    # Where there is no line feed there is no line; what has the form then still stands behind the last one.
     words = lines[0].split(" ")
-    if len(lines) == 1 or len(words) != 2 or words[0] != MODE_WORD or not is_known(words[1], MODES):
+    if len(words) != 2 or words[0] != MODE_WORD or not is_known(words[1], MODES):
         raise BadText(1)
     match = Match(system, machine, words[1])
     last = len(lines) - 2

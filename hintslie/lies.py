@@ -3,7 +3,7 @@
 from hintslie.checks import check_terms
 from hintslie.errors import BadNumber, NotKept
 from hintslie.kinds import is_below, is_natural, is_tuple_of
-from hintslie.solving import Contest
+from hintslie.solving import Contest, answer_costs, promises
 from hintslie.steps import Steps, lie_told
 from hintslie.terms import NOTHING, lowest, weight, worths
 from hintslie.views import first_view, graph_of
@@ -21,11 +21,8 @@ def _check(system, machine, share, most):
 
 def _behind_lies(graph, worth, numbers):
     """What the asker reaches at each view by the best lie, or by asking no more, if these are the numbers behind."""
-    reached = [
-        min([weight(worth, price, rise, 0) + numbers[behind] for _, price, behind in served])
-        for rise, served in graph.answers
-    ]
-    return [max([0] + [reached[answered] for _, lie, answered in rounds if lie > 0]) for rounds in graph.rounds]
+    promised = promises(answer_costs(graph, worth), numbers)
+    return [max([0] + [promised[answered] for _, lie, answered in rounds if lie > 0]) for rounds in graph.rounds]
 
 
 def _layers(graph, share, most):

@@ -99,6 +99,6 @@ def lesser_machine(machine):
         """The partition by names and what they lead to."""
         return _refined_states(turns, parts)
 
-    parts = _coarsest(machine.states, refined)
-    lesser = {parts[state]: {name: parts[turn[name]] for name in turn} for state, turn in enumerate(turns)}
-    return Machine(met_turns(lesser, parts[0]))
+    alike = _coarsest(machine.states, refined)
+    lesser = {alike[state]: {name: alike[turn[name]] for name in turn} for state, turn in enumerate(turns)}
+    return Machine(met_turns(lesser, alike[0]))

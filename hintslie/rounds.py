@@ -5,6 +5,7 @@ from hintslie.errors import BadNumber
 from hintslie.graphs import Graph
 from hintslie.habits import check_style
 from hintslie.kinds import is_below
+from hintslie.solving import answer_costs, promises
 from hintslie.steps import Steps
 from hintslie.terms import lowest, units, weight, worths
 from hintslie.views import first_view
@@ -17,22 +18,23 @@ def _check_rounds(thing):
         raise BadNumber()
 
 
-def _promised(worth, lie, answer, numbers):
-    """The least that an answer to an ask gives, and the number behind it, together."""
-    rise, served = answer
-    return min([weight(worth, price, rise, lie) + numbers[behind] for _, price, behind in served])
-
-
 def _layers(graph, worth, many):
-    """For 0, 1, .. many rounds what an asker reaches in at most so many, at each view that comes with so many left."""
+    """For 0, 1, .. many rounds what an asker reaches in at most so many, at each view that comes with so many left.
+
+    At the views behind, which come later, it says nothing.
+    """
+    costs = answer_costs(graph, worth)
+    lies = (0, weight(worth, 0, 0, 1))
     layers = [[0] * len(graph.views)]
     for left in range(1, many + 1):
         # A graph that has all views has no more of them within more rounds.
         count = graph.within[min(many - left, len(graph.within) - 1)]
-        layers.append([
-            max([0] + [_promised(worth, lie, graph.answers[answered], layers[-1]) for _, lie, answered in rounds])
+        promised = promises(costs, layers[-1])
+        reached = [
+            max([0] + [promised[answered] + lies[lie] for _, lie, answered in rounds])
             for rounds in graph.rounds[:count]
-        ])
+        ]
+        layers.append(reached + [0] * (len(graph.views) - count))
     return layers
 
 
@@ -45,10 +47,12 @@ def rounds_sum(system, machine, mode, share, charge, many):
 
 
 def _best_ask(graph, worth, view, numbers, reached):
-    """The pair (ask, answer) of the first ask at the view by which just so much is reached."""
+    """The pair (ask, view behind) of the first ask at the view whose only answer reaches just so much."""
     for ask, lie, answered in graph.rounds[view]:
-        if _promised(worth, lie, graph.answers[answered], numbers) == reached:
-            return ask, answered
+        rise, served = graph.answers[answered]
+        _, price, behind = served[0]
+        if weight(worth, price, rise, lie) + numbers[behind] == reached:
+            return ask, behind
     return None
 
 
@@ -66,8 +70,7 @@ def cruelest(system, machine, mode, style, share, charge, many):
     view = 0
     asks = []
     while left > 0:
-        ask, answered = _best_ask(graph, worth, view, layers[left - 1], layers[left][view])
+        ask, view = _best_ask(graph, worth, view, layers[left - 1], layers[left][view])
         asks.append(ask)
         left -= 1
-        _, _, view = graph.answers[answered][1][0]
     return lowest(reached[many], units(share, charge)), tuple(asks)

@@ -7,6 +7,22 @@ from hintslie.terms import weight, worths
 from hintslie.views import graph_of
 
 
+def answer_costs(graph, worth):
+    """For each number of answers in a graph the pairs (cost, view behind): what they weigh but for a lie.
+
+    A lie belongs to the view, and views that differ in it share their answers (see Graph).
+    """
+    return [
+        [(weight(worth, price, rise, 0), behind) for _, price, behind in served]
+        for rise, served in graph.answers
+    ]
+
+
+def promises(costs, numbers):
+    """For each number of answers the least cost and number behind, together, that the player can choose."""
+    return [min([cost + numbers[behind] for cost, behind in answers]) for answers in costs]
+
+
 class Contest:
     """An asker who gets better, at the views of a graph, until no ask promises more.
 
@@ -22,11 +38,7 @@ class Contest:
     def __init__(self, graph, worth, rounds=None, stops=None):
         self.graph = graph
         self.choices = [None] * len(graph.views)
-        # What answers weigh but for a lie, which belongs to the view (see Graph).
-        self._costs = [
-            [(weight(worth, price, rise, 0), behind) for _, price, behind in served]
-            for rise, served in graph.answers
-        ]
+        self._costs = answer_costs(graph, worth)
         lies = (0, weight(worth, 0, 0, 1))
         self._asked = [
             [(answered, lies[lie]) for _, lie, answered in told]
@@ -46,7 +58,7 @@ class Contest:
     def _choose(self):
         """Choose the ask that promises most wherever one promises more than is reached; whether one did."""
         reached = self._reached
-        promised = [min([cost + reached[behind] for cost, behind in answers]) for answers in self._costs]
+        promised = promises(self._costs, reached)
         better = False
         for view, asked in enumerate(self._asked):
             if reached[view] == self._endless:

@@ -32,11 +32,11 @@ def _layers(graph, share, most):
     kept there, all views have a number, with any lies left.
     """
     worth = worths(share, NOTHING)
-    true = [[one for one in rounds if one[1] == 0] for rounds in graph.rounds]
+    truthful = [[one for one in rounds if one[1] == 0] for rounds in graph.rounds]
     stops = [0] * len(graph.views)
     layers = []
     for _ in range(most + 1):
-        numbers = Contest(graph, worth, true, stops).numbers
+        numbers = Contest(graph, worth, truthful, stops).numbers
         if numbers[0] is None:
             return None
         layers.append(numbers)
